@@ -12,7 +12,7 @@ const mostBits = 8 * api.MaxText
 
 // length tells how many bytes a key has.
 func (c *call) length() (api.Reply, error) {
-	s, _, err := c.text(c.args[1])
+	s, _, err := c.text(c.Args[1])
 	if err != nil {
 		return api.Reply{}, err
 	}
@@ -21,8 +21,8 @@ func (c *call) length() (api.Reply, error) {
 
 // lengthen puts a text behind what a key has. A key that is not there comes to be so, be the text an empty one.
 func (c *call) lengthen() (api.Reply, error) {
-	return c.change(c.args[1], func(s string) (string, int64, api.Code) {
-		s, why := text.Append(s, c.args[2])
+	return c.change(c.Args[1], func(s string) (string, int64, api.Code) {
+		s, why := text.Append(s, c.Args[2])
 		return s, int64(len(s)), why
 	})
 }
@@ -33,7 +33,7 @@ func (c *call) getRange() (api.Reply, error) {
 	if err != nil {
 		return api.Reply{}, err
 	}
-	s, _, err := c.text(c.args[1])
+	s, _, err := c.text(c.Args[1])
 	if err != nil {
 		return api.Reply{}, err
 	}
@@ -42,31 +42,31 @@ func (c *call) getRange() (api.Reply, error) {
 
 // setRange lays a text over what a key has. An empty one does nothing, so that a key that is not there does not come to be so.
 func (c *call) setRange() (api.Reply, error) {
-	at, err := c.number(c.args[2])
+	at, err := c.Number(c.Args[2])
 	if err != nil {
 		return api.Reply{}, err
 	}
-	s, _, err := c.text(c.args[1])
+	s, _, err := c.text(c.Args[1])
 	if err != nil {
 		return api.Reply{}, err
 	}
-	s, why := text.SetRange(s, at, c.args[3])
+	s, why := text.SetRange(s, at, c.Args[3])
 	if why != api.OK {
-		return c.refuse(why)
+		return c.Refuse(why)
 	}
-	if c.args[3] != "" {
-		c.keep(c.args[1], s)
+	if c.Args[3] != "" {
+		c.keep(c.Args[1], s)
 	}
 	return reply.Int(int64(len(s))), nil
 }
 
 // getBit tells a bit of what a key has.
 func (c *call) getBit() (api.Reply, error) {
-	i, err := c.bit(c.args[2], mostBits)
+	i, err := c.bit(c.Args[2], mostBits)
 	if err != nil {
 		return api.Reply{}, err
 	}
-	s, _, err := c.text(c.args[1])
+	s, _, err := c.text(c.Args[1])
 	if err != nil {
 		return api.Reply{}, err
 	}
@@ -75,15 +75,15 @@ func (c *call) getBit() (api.Reply, error) {
 
 // setBit sets a bit of what a key has, and tells what it was.
 func (c *call) setBit() (api.Reply, error) {
-	i, err := c.bit(c.args[2], mostBits)
+	i, err := c.bit(c.Args[2], mostBits)
 	if err != nil {
 		return api.Reply{}, err
 	}
-	b, err := c.bit(c.args[3], 2)
+	b, err := c.bit(c.Args[3], 2)
 	if err != nil {
 		return api.Reply{}, err
 	}
-	return c.change(c.args[1], func(s string) (string, int64, api.Code) {
+	return c.change(c.Args[1], func(s string) (string, int64, api.Code) {
 		s, was, why := text.SetBit(s, i, int(b))
 		return s, int64(was), why
 	})
@@ -92,16 +92,16 @@ func (c *call) setBit() (api.Reply, error) {
 // countBits tells how many bits are 1, in all or in a span.
 func (c *call) countBits() (api.Reply, error) {
 	a, b := int64(0), int64(-1)
-	switch len(c.args) {
+	switch len(c.Args) {
 	case 3:
-		return c.refuse(api.ErrSyntax)
+		return c.Refuse(api.ErrSyntax)
 	case 4:
 		var err error
 		if a, b, err = c.span(); err != nil {
 			return api.Reply{}, err
 		}
 	}
-	s, _, err := c.text(c.args[1])
+	s, _, err := c.text(c.Args[1])
 	if err != nil {
 		return api.Reply{}, err
 	}
@@ -110,10 +110,10 @@ func (c *call) countBits() (api.Reply, error) {
 
 // span reads the two numbers behind a key.
 func (c *call) span() (a, b int64, err error) {
-	if a, err = c.number(c.args[2]); err != nil {
+	if a, err = c.Number(c.Args[2]); err != nil {
 		return 0, 0, err
 	}
-	if b, err = c.number(c.args[3]); err != nil {
+	if b, err = c.Number(c.Args[3]); err != nil {
 		return 0, 0, err
 	}
 	return a, b, nil
@@ -123,7 +123,7 @@ func (c *call) span() (a, b int64, err error) {
 func (c *call) bit(word string, end int64) (int64, error) {
 	n, ok := num.Parse(word)
 	if !ok || n < 0 || n >= end {
-		return 0, c.because(api.ErrBit)
+		return 0, c.Because(api.ErrBit)
 	}
 	return n, nil
 }

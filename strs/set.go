@@ -22,10 +22,10 @@ type options struct {
 
 // set lets a key have a text, if it is there or not as the options say.
 func (c *call) set() (api.Reply, error) {
-	key := c.args[1]
-	o, ok := readOptions(c.args[3:])
+	key := c.Args[1]
+	o, ok := readOptions(c.Args[3:])
 	if !ok {
-		return c.refuse(api.ErrSyntax)
+		return c.Refuse(api.ErrSyntax)
 	}
 	at, timed, err := c.expiry(key, o)
 	if err != nil {
@@ -43,9 +43,9 @@ func (c *call) set() (api.Reply, error) {
 		}
 		return told, nil
 	}
-	c.put(key, c.args[2])
+	c.put(key, c.Args[2])
 	if timed {
-		c.space.Expire(key, at, c.now)
+		c.Space.Expire(key, at, c.Now)
 	}
 	return told, nil
 }
@@ -93,16 +93,16 @@ func (c *call) expiry(key string, o options) (at int64, timed bool, err error) {
 	case "":
 		return 0, false, nil
 	case "keepttl":
-		at, timed = c.space.Expiry(key, c.now)
+		at, timed = c.Space.Expiry(key, c.Now)
 		return at, timed, nil
 	}
-	n, err := c.number(o.wait)
+	n, err := c.Number(o.wait)
 	if err != nil {
 		return 0, false, err
 	}
 	at, ok := c.behind(n, o.until == "ex")
 	if !ok {
-		return 0, false, c.because(api.ErrExpire)
+		return 0, false, c.Because(api.ErrExpire)
 	}
 	return at, true, nil
 }
@@ -118,5 +118,5 @@ func (c *call) behind(n int64, seconds bool) (int64, bool) {
 		}
 		n *= second
 	}
-	return num.Add(c.now, n)
+	return num.Add(c.Now, n)
 }
